@@ -1,0 +1,1 @@
+"""Leastloss: wishes of time with prices, and the machine that loses least."""

@@ -1,0 +1,151 @@
+"""Holds the package to those rules of ../shared/LANGUAGE.md that a plain look at the source can see."""
+
+import ast
+import builtins
+import pathlib
+import re
+import unittest
+
+PACKAGE = pathlib.Path(__file__).resolve().parent.parent / "leastloss"
+
+OWN_NAMES = set(
+    "len range enumerate zip min max sum abs sorted reversed int str bool list tuple dict set frozenset isinstance"
+    " ord repr any all divmod Exception ValueError TypeError KeyError IndexError LookupError ZeroDivisionError"
+    " ArithmeticError OverflowError RuntimeError NotImplementedError AttributeError StopIteration".split()
+)
+METHODS = set(
+    "append clear copy count endswith extend find get index insert isalnum isalpha isdigit islower isspace isupper"
+    " items join keys ljust lower lstrip partition pop remove replace reverse rfind rjust rpartition rsplit rstrip"
+    " setdefault split splitlines startswith strip update upper values zfill bit_length".split()
+)
+NODES = set(
+    "Module Expr Constant ImportFrom alias FunctionDef arguments arg Lambda ClassDef Assign AugAssign If While For"
+    " Return Break Continue Pass Raise Try ExceptHandler Call Name Attribute Subscript Slice List Tuple Dict Set"
+    " ListComp comprehension BinOp UnaryOp BoolOp Compare IfExp JoinedStr FormattedValue keyword Load Store"
+    " Add Sub Mult FloorDiv Mod Pow BitAnd BitOr BitXor LShift RShift Invert USub UAdd Not And Or"
+    " Eq NotEq Lt LtE Gt GtE Is IsNot In NotIn".split()
+)
+TOP_NODES = (ast.Expr, ast.ImportFrom, ast.FunctionDef, ast.ClassDef, ast.Assign)
+WORDS_OUT = re.compile(
+    r"\b(type|typing|typing_extensions|enum|Enum|IntEnum|StrEnum|Flag|IntFlag|Generic|Protocol|ABC|ABCMeta"
+    r"|namedtuple|NamedTuple|TypedDict|TYPE_CHECKING|abstractmethod)\b|dataclass|overload|contextmanager"
+)
+
+
+def texts():
+    return {path.stem: path.read_text(encoding="utf-8") for path in sorted(PACKAGE.glob("*.py"))}
+
+
+def trees():
+    return {stem: ast.parse(text) for stem, text in texts().items()}
+
+
+def bound_at_top(tree):
+    names = []
+    for node in tree.body:
+        if isinstance(node, (ast.FunctionDef, ast.ClassDef)):
+            names.append(node.name)
+        if isinstance(node, ast.Assign):
+            names.append(node.targets[0].id)
+    return names
+
+
+def drawn_from(tree):
+    return [node for node in tree.body if isinstance(node, ast.ImportFrom)]
+
+
+class Form(unittest.TestCase):
+    def test_files(self):
+        lying = [path for path in PACKAGE.iterdir() if path.name != "__pycache__"]
+        self.assertIn("__init__.py", [path.name for path in lying])
+        for path in lying:
+            self.assertRegex(path.name, r"\A[a-z0-9_]+\.py\Z")
+
+    def test_size_and_signs(self):
+        for stem, text in texts().items():
+            with self.subTest(file=stem):
+                self.assertRegex(text, r"\A[ -~\n]*\Z")
+                self.assertLessEqual(len(text.splitlines()), 400)
+                self.assertLessEqual(max(len(line) for line in text.splitlines()), 120)
+                self.assertIsNone(WORDS_OUT.search(text))
+
+    def test_nodes(self):
+        for stem, tree in trees().items():
+            for node in tree.body:
+                self.assertIsInstance(node, TOP_NODES, stem)
+            for node in ast.walk(tree):
+                with self.subTest(file=stem, line=getattr(node, "lineno", None)):
+                    self.node_is_plain(node)
+
+    def node_is_plain(self, node):
+        self.assertIn(type(node).__name__, NODES)
+        if isinstance(node, ast.Constant):
+            self.assertIsInstance(node.value, (int, str, type(None)))
+        if isinstance(node, ast.Assign):
+            self.assertEqual(len(node.targets), 1)
+        if isinstance(node, ast.ListComp):
+            self.assertEqual(len(node.generators), 1)
+            self.assertLessEqual(len(node.generators[0].ifs), 1)
+        if isinstance(node, (ast.For, ast.While)):
+            self.assertEqual(node.orelse, [])
+        if isinstance(node, ast.Try):
+            self.assertEqual(node.finalbody, [])
+
+    def test_functions(self):
+        for stem, tree in trees().items():
+            for node in ast.walk(tree):
+                if isinstance(node, ast.FunctionDef):
+                    with self.subTest(file=stem, function=node.name):
+                        self.function_is_plain(node)
+
+    def function_is_plain(self, node):
+        self.assertLessEqual(node.end_lineno - node.lineno + 1, 40)
+        self.assertEqual(node.decorator_list, [])
+        self.assertIsNone(node.args.vararg)
+        self.assertIsNone(node.args.kwarg)
+        self.assertEqual(node.args.kwonlyargs, [])
+        for arg in node.args.args:
+            self.assertFalse(hasattr(builtins, arg.arg), arg.arg)
+
+    def test_names(self):
+        defined = set()
+        for tree in trees().values():
+            defined.update(node.name for node in ast.walk(tree) if isinstance(node, ast.FunctionDef))
+        for stem, tree in trees().items():
+            top = bound_at_top(tree)
+            self.assertEqual(len(top), len(set(top)), stem)
+            for node in ast.walk(tree):
+                with self.subTest(file=stem, line=getattr(node, "lineno", None)):
+                    self.name_is_plain(node, METHODS | defined)
+
+    def name_is_plain(self, node, methods):
+        if isinstance(node, ast.Name):
+            self.assertFalse(node.id.startswith("_"), node.id)
+            if hasattr(builtins, node.id):
+                self.assertIn(node.id, OWN_NAMES)
+                self.assertIsInstance(node.ctx, ast.Load)
+        if isinstance(node, ast.Call) and isinstance(node.func, ast.Attribute):
+            self.assertIn(node.func.attr, methods)
+
+    def test_imports(self):
+        files = trees()
+        for stem, tree in files.items():
+            for node in drawn_from(tree):
+                with self.subTest(file=stem, module=node.module):
+                    self.assertEqual(node.level, 0)
+                    folder, dot, other = node.module.partition(".")
+                    self.assertEqual(folder, "leastloss")
+                    self.assertIn(other, files)
+                    for alias in node.names:
+                        self.assertIn(alias.name, bound_at_top(files[other]))
+
+    def test_no_two_files_draw_from_one_another(self):
+        left = {stem: {node.module.partition(".")[2] for node in drawn_from(tree)} for stem, tree in trees().items()}
+        while left:
+            free = [stem for stem, others in left.items() if not others & set(left)]
+            self.assertTrue(free, f"a circle among {sorted(left)}")
+            left = {stem: others for stem, others in left.items() if stem not in free}
+
+
+if __name__ == "__main__":
+    unittest.main()
