@@ -3,24 +3,7 @@ import unittest
 
 from leastloss.books import book_pieces, checked
 from leastloss.errors import NoBook
-from tests.things import NO_NAMES, YES, Untouchable, deep, nested_tuples, no_tuples
-
-A = ("lamp", "a")
-B = ("lamp", "b")
-X = ("lamp", "x")
-Y = ("lamp", "y")
-
-
-def book(foe=("a",), friend=("x",), promises=(), musts=(), wishes=((1, YES),)):
-    return (foe, friend, promises, musts, wishes)
-
-
-def wide(promises=(), musts=(), wishes=((1, YES),)):
-    return (("a", "b"), ("x", "y"), promises, musts, wishes)
-
-
-def odd_things():
-    return no_tuples() + [nested_tuples()]
+from tests.things import A, B, NO_NAMES, X, Y, YES, Untouchable, book, deep, odd_things, wide
 
 
 class BookCase(unittest.TestCase):

@@ -127,6 +127,42 @@ class Form(unittest.TestCase):
         if isinstance(node, ast.Call) and isinstance(node.func, ast.Attribute):
             self.assertIn(node.func.attr, methods)
 
+    def test_no_local_is_called_like_a_class_or_an_import(self):
+        for stem, tree in trees().items():
+            taken = {node.name for node in tree.body if isinstance(node, ast.ClassDef)}
+            taken.update(alias.name for node in drawn_from(tree) for alias in node.names)
+            for node in ast.walk(tree):
+                with self.subTest(file=stem, line=getattr(node, "lineno", None)):
+                    if isinstance(node, ast.arg):
+                        self.assertNotIn(node.arg, taken)
+                        self.assertIsNone(node.annotation)
+                    if isinstance(node, ast.Name) and isinstance(node.ctx, ast.Store):
+                        self.assertNotIn(node.id, taken)
+
+    def test_methods_and_values_of_objects(self):
+        methods = set()
+        values = set()
+        for tree in trees().values():
+            for node in ast.walk(tree):
+                if isinstance(node, ast.ClassDef):
+                    own = [part.name for part in node.body if isinstance(part, ast.FunctionDef)]
+                    self.assertEqual(len(own), len(set(own)), node.name)
+                    methods.update(own)
+                if isinstance(node, ast.Attribute) and isinstance(node.ctx, ast.Store):
+                    self.assertIsInstance(node.value, ast.Name)
+                    values.add(node.attr)
+        self.assertEqual(methods & values, set())
+        for kind in (str, int, list, tuple, dict, set, frozenset, bytes):
+            free = {name for name in methods | values if not name.startswith("__")}
+            self.assertEqual(free & set(vars(kind)), set(), kind.__name__)
+
+    def test_is_stands_beside_none_true_and_false_alone(self):
+        for stem, tree in trees().items():
+            for node in ast.walk(tree):
+                if isinstance(node, ast.Compare) and isinstance(node.ops[0], (ast.Is, ast.IsNot)):
+                    with self.subTest(file=stem, line=node.lineno):
+                        self.assertIn(getattr(node.comparators[0], "value", "other"), (None, True, False))
+
     def test_imports(self):
         files = trees()
         for stem, tree in files.items():
