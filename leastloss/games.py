@@ -28,16 +28,16 @@ def settings_of(lamps):
 
 
 class Numbering:
-    """Memories, numbered as they are first met."""
+    """Things, such as memories, numbered as they are first met."""
 
     def __init__(self, first):
         self.met = [first]
 
-    def number_of(self, memory):
-        """The number of a memory, a new one if it is met for the first time."""
-        if memory not in self.met:
-            self.met.append(memory)
-        return self.met.index(memory)
+    def number_of(self, thing):
+        """The number of a thing, a new one if it is met for the first time."""
+        if thing not in self.met:
+            self.met.append(thing)
+        return self.met.index(thing)
 
 
 def foe_settings(book, rules, memory):

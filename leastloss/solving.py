@@ -1,5 +1,8 @@
 """What is reckoned over the nodes of a game, for whichever file needs it."""
 
+from leastloss.errors import Lost
+from leastloss.games import game
+
 
 def loses_before(move, lost, turns):
     """Whether all answers to a move, if there are any, lead to nodes lost in fewer turns than these."""
@@ -21,3 +24,28 @@ def lost_turns(nodes):
         for number in found:
             lost[number] = turns
         turns = turns + 1
+
+
+def with_good_answers(move, lost):
+    """A move with those of its answers alone that lead to nodes that are not lost."""
+    return (move[0], tuple([answer for answer in move[1] if lost[answer[2]] is None]))
+
+
+def good_moves(nodes):
+    """For each node its moves, each with its good answers alone; None for a lost node."""
+    lost = lost_turns(nodes)
+    good = []
+    for node, turns in zip(nodes, lost):
+        if turns is None:
+            good.append(tuple([with_good_answers(move, lost) for move in node[1]]))
+        else:
+            good.append(None)
+    return good
+
+
+def kept_moves(book):
+    """The good moves of a book's game, from which the friend keeps its musts, else NoBook or Lost."""
+    good = good_moves(game(book))
+    if good[0] is None:
+        raise Lost("the foe can make the friend break a must")
+    return good

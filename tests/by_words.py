@@ -152,3 +152,35 @@ def some_books(number):
             tuple((draw.randrange(1, 100), some_saying(draw, foe + friend, 3)) for _ in range(draw.randrange(1, 4))),
         ))
     return made
+
+
+def some_moving_books(number):
+    """So many things that are mostly books, the same at each call, with games of more nodes and longer rings."""
+    draw = random.Random(20261117)
+    made = []
+    for _ in range(number):
+        foe = ("a", "b")[:draw.randrange(1, 3)]
+        friend = ("x", "y")[:draw.randrange(1, 3)]
+        seen = [("lamp", name) for name in foe + friend]
+        chosen = draw.choice(seen)
+        for _ in range(draw.randrange(1, 4)):
+            chosen = ("before", chosen)
+            seen.append(chosen)
+        if draw.randrange(2):
+            seen.append((draw.choice(("before", "once", "sofar")), draw.choice(seen[:len(foe + friend)])))
+        fit = [saying for saying in seen if saying[0] == "before" or saying[1] in foe]
+        made.append((
+            foe, friend,
+            tuple(joined(draw, fit, 3) for _ in range(draw.randrange(2))),
+            tuple(joined(draw, seen, 3) for _ in range(draw.randrange(2))),
+            tuple((draw.randrange(1, 100), joined(draw, seen, 3)) for _ in range(draw.randrange(1, 6))),
+        ))
+    return made
+
+
+def joined(draw, sayings, depth):
+    """Some of these sayings joined by words that ask for one turn alone."""
+    if depth == 0:
+        chosen = draw.choice(sayings)
+        return ("not", chosen) if draw.randrange(2) else chosen
+    return (draw.choice(("and", "or", "then", "same")), joined(draw, sayings, depth - 1), draw.choice(sayings))
