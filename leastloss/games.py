@@ -32,12 +32,14 @@ class Numbering:
 
     def __init__(self, first):
         self.met = [first]
+        self.numbers_met = {first: 0}
 
     def number_of(self, thing):
         """The number of a thing, a new one if it is met for the first time."""
-        if thing not in self.met:
+        if thing not in self.numbers_met:
+            self.numbers_met[thing] = len(self.met)
             self.met.append(thing)
-        return self.met.index(thing)
+        return self.numbers_met[thing]
 
 
 def foe_settings(book, rules, memory):

@@ -25,10 +25,15 @@ def is_stand(book, stands, thing):
     return is_row(thing, ways, ways) and all([is_way(book, stands, way) for way in thing])
 
 
+def is_machine(book, thing):
+    """Whether a thing of any kind is a machine for this book."""
+    return is_row(thing, 1, MOST_STANDS) and all([is_stand(book, len(thing), stand) for stand in thing])
+
+
 def checked_machine(book, machine):
     """The machine, if it is one for this book, else NoBook or NoMachine."""
     checked(book)
-    if not is_row(machine, 1, MOST_STANDS) or not all([is_stand(book, len(machine), stand) for stand in machine]):
+    if not is_machine(book, machine):
         # The words don't show the thing: it may be of any kind and size.
         raise NoMachine("no machine for this book")
     return machine

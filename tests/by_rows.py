@@ -168,3 +168,36 @@ def plays_against(book, machine, turns):
                 longer.append((play + [foe + friend], behind))
         plays = longer
     return [play for play, stand in plays]
+
+
+def first_break(book, machine, longest):
+    """The first play, shorter ones first, of at most so many turns in which a must is broken, by the words of [15]."""
+    plays = [([], 0)]
+    for _ in range(longest):
+        longer = []
+        for play, stand in plays:
+            for foe in by_words.foe_moves(book, play):
+                friend, behind = machine[stand][by_words.settings(book[0]).index(foe)]
+                longer.append((play + [foe + friend], behind))
+        broken = [play for play, stand in longer if not by_words.keeps(book, book[3], play)]
+        if broken:
+            return min(broken)
+        plays = longer
+    return None
+
+
+def pairs_of(nodes, foe, machine):
+    """For each pair of a node and a stand the ways (loss, pair) from it, by a machine that breaks no must."""
+    ways = {}
+    ahead = [(0, 0)]
+    while ahead:
+        node, stand = ahead.pop()
+        if (node, stand) in ways:
+            continue
+        ways[node, stand] = []
+        for setting, answers in nodes[node][1]:
+            friend, behind = machine[stand][by_words.settings(foe).index(setting)]
+            loss, led = [answer[1:] for answer in answers if answer[0] == friend][0]
+            ways[node, stand].append((loss, (led, behind)))
+        ahead += [pair for loss, pair in ways[node, stand]]
+    return ways

@@ -50,6 +50,26 @@ def bound_at_top(tree):
     return names
 
 
+def called(node):
+    """The name or the method that is called, None for what is no call."""
+    if not isinstance(node, ast.Call):
+        return None
+    return node.func.id if isinstance(node.func, ast.Name) else node.func.attr
+
+
+def walked_in(node):
+    """What a part of the source walks on the spot."""
+    if isinstance(node, (ast.For, ast.comprehension)):
+        return [node.iter]
+    if called(node) == "zip":
+        return node.args
+    if called(node) in ("list", "tuple", "dict", "sorted", "sum", "any", "all", "enumerate", "join"):
+        return node.args[:1]
+    if called(node) in ("min", "max") and len(node.args) == 1:
+        return node.args
+    return []
+
+
 def drawn_from(tree):
     return [node for node in tree.body if isinstance(node, ast.ImportFrom)]
 
@@ -163,6 +183,47 @@ class Form(unittest.TestCase):
                     with self.subTest(file=stem, line=node.lineno):
                         self.assertIn(getattr(node.comparators[0], "value", "other"), (None, True, False))
 
+    def test_walked_at_once(self):
+        for stem, tree in trees().items():
+            walked = [id(part) for node in ast.walk(tree) for part in walked_in(node)]
+            for node in ast.walk(tree):
+                if called(node) in ("zip", "enumerate", "reversed", "range", "items", "keys", "values"):
+                    with self.subTest(file=stem, line=node.lineno):
+                        self.assertIn(id(node), walked)
+
+    def test_sets_are_not_kept(self):
+        for stem, tree in trees().items():
+            beside = []
+            for node in ast.walk(tree):
+                if isinstance(node, ast.Compare):
+                    beside += [id(part) for part in [node.left] + node.comparators]
+                if called(node) in ("len", "sorted"):
+                    beside += [id(part) for part in node.args]
+            for node in ast.walk(tree):
+                if called(node) in ("set", "frozenset") or isinstance(node, ast.Set):
+                    with self.subTest(file=stem, line=node.lineno):
+                        self.assertIn(id(node), beside)
+
+    def test_texts_and_numbers(self):
+        for stem, text in texts().items():
+            for node in ast.walk(ast.parse(text)):
+                with self.subTest(file=stem, line=getattr(node, "lineno", None)):
+                    if isinstance(node, ast.Constant) and isinstance(node.value, str):
+                        self.assertRegex(node.value, r"\A[ -$&-~\n\t]*\Z")
+                    if isinstance(node, ast.BinOp):
+                        self.assertNotIsInstance(node.op, ast.Pow)
+                    self.assertNotIn(called(node), ("chr", "getattr", "format"))
+
+    def test_keywords(self):
+        fit = {"sorted": ("key", "reverse"), "min": ("key", "default"), "max": ("key", "default"),
+               "sum": ("start",), "enumerate": ("start",), "zip": ("strict",)}
+        for stem, tree in trees().items():
+            for node in ast.walk(tree):
+                if called(node) in OWN_NAMES | METHODS:
+                    for keyword in node.keywords:
+                        with self.subTest(file=stem, line=node.lineno):
+                            self.assertIn(keyword.arg, fit.get(called(node), ()))
+
     def test_imports(self):
         files = trees()
         for stem, tree in files.items():
@@ -174,6 +235,13 @@ class Form(unittest.TestCase):
                     self.assertIn(other, files)
                     for alias in node.names:
                         self.assertIn(alias.name, bound_at_top(files[other]))
+
+    def test_what_is_drawn_is_used(self):
+        for stem, tree in trees().items():
+            used = {node.id for node in ast.walk(tree) if isinstance(node, ast.Name)}
+            for node in drawn_from(tree):
+                for alias in node.names:
+                    self.assertIn(alias.name, used, stem)
 
     def test_no_two_files_draw_from_one_another(self):
         left = {stem: {node.module.partition(".")[2] for node in drawn_from(tree)} for stem, tree in trees().items()}

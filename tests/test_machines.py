@@ -10,49 +10,12 @@ from leastloss.machines import best_machine, checked_machine, lesser, run
 from leastloss.means import friend_plan, mean
 from leastloss.musts import lost_in
 from tests import by_rows, by_words
-from tests.things import A, NO, X, YES, Untouchable, book, nested_tuples, no_books, odd_things, wide
+from tests.some_machines import BLINK, COPY, LATE, OFF, ON, no_machines, some_machine
+from tests.things import A, NO, X, YES, Untouchable, book, no_books, odd_things, wide
 
 T = True
 F = False
-OFF = (F,)
-ON = (T,)
 BOOK = book()
-
-# Copies what the foe sets.
-COPY = (((OFF, 0), (ON, 0)),)
-# Sets what the foe set at the turn ahead.
-LATE = (((OFF, 0), (OFF, 1)), ((ON, 0), (ON, 1)))
-# On at every other turn, whatever the foe does.
-BLINK = (((OFF, 1), (OFF, 1)), ((ON, 0), (ON, 0)))
-
-
-def some_machine(draw, whole, most):
-    """A machine of at most so many stands, of which several may set the same."""
-    stands = draw.randrange(1, most + 1)
-    friends = draw.choice((by_words.settings(whole[1]), by_words.settings(whole[1])[:1], by_words.settings(whole[1])[-2:]))
-    ways = len(by_words.settings(whole[0]))
-    return tuple(
-        tuple((draw.choice(friends), draw.randrange(stands)) for _ in range(ways)) for _ in range(stands)
-    )
-
-
-def no_machines():
-    """Things of many kinds, none of them a machine for a book with one lamp on either side."""
-    wrong = odd_things() + [(), list(COPY), COPY[0], COPY * 65, {0: COPY[0]}, [COPY], (COPY,), (list(COPY[0]),), ((),)]
-    good = ((OFF, 0), (ON, 0))
-    stands = odd_things() + [
-        (), good[:1], good + good[:1], good + good, list(good), (good,), ((OFF, 0), [ON, 0]), {0: (OFF, 0), 1: (ON, 0)},
-    ]
-    ways = odd_things() + [(), (OFF,), (OFF, 0, 0), (0, OFF), [OFF, 0], ((), 0), ((F, F), 0), ([F], 0), OFF]
-    for lamp in (0, 1, 0.0, None, "", "F", (), (F,), [F], Untouchable()):
-        ways.append(((lamp,), 0))
-    for number in (-1, 2, 64, 10 ** 30, True, False, None, 0.0, 1.0, "", "0", (), (0,), [0], Untouchable(), nested_tuples()):
-        ways.append((OFF, number))
-    for way in ways:
-        stands.extend([(way, (ON, 0)), ((OFF, 0), way)])
-    for stand in stands:
-        wrong.extend([(stand,), (good, stand), (stand, good)])
-    return wrong
 
 
 class Checked(unittest.TestCase):
